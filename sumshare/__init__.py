@@ -1,0 +1,1 @@
+"""Sumshare: many hands that keep little of one long stream."""
