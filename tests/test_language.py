@@ -1,10 +1,11 @@
 """That the package keeps to its small part of Python, as far as a plain look at its files tells."""
 
 import ast
-import builtins
 import pathlib
 import re
 import unittest
+
+from tests.language_rows import DUNDERS, ERRORS, FUNCTIONS, KINDS, METHODS, PYTHONS_OWN
 
 PACKAGE = pathlib.Path(__file__).resolve().parent.parent / "sumshare"
 FILES = sorted(path for path in PACKAGE.rglob("*") if "__pycache__" not in path.parts)
@@ -13,21 +14,7 @@ WORDS_OUT = (
     r"\b(type|typing|typing_extensions|enum|Enum|IntEnum|StrEnum|Flag|IntFlag|Generic|Protocol|ABC|ABCMeta"
     r"|namedtuple|NamedTuple|TypedDict|TYPE_CHECKING|abstractmethod)\b|dataclass|overload|contextmanager"
 )
-ERRORS = (
-    "Exception ValueError TypeError KeyError IndexError LookupError ZeroDivisionError ArithmeticError "
-    "OverflowError RuntimeError NotImplementedError AttributeError StopIteration"
-).split()
-BUILTINS = (
-    "len range enumerate zip min max sum abs sorted reversed int str bool list tuple dict set frozenset "
-    "isinstance ord repr any all divmod"
-).split() + ERRORS
-PYTHONS_OWN = dir(builtins)
-METHODS = (
-    "append clear copy count endswith extend find get index insert isalnum isalpha isdigit islower isspace "
-    "isupper items join keys ljust lower lstrip partition pop remove replace reverse rfind rjust rpartition "
-    "rsplit rstrip setdefault split splitlines startswith strip update upper values zfill bit_length"
-).split()
-DUNDERS = "__init__ __eq__ __repr__ __str__ __len__".split()
+BUILTINS = [name for name in FUNCTIONS if name != "print"] + KINDS + ERRORS
 OTHERS_METHODS = {
     name for kind in (str, int, list, dict, tuple, set, bytes) for name in dir(kind)
 } - set(METHODS) - set(DUNDERS) - {"add", "discard"}

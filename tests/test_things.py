@@ -2,15 +2,7 @@ import copy
 import unittest
 
 from sumshare.things import at_most, is_stream, of_days, sum_of, things_in, times_of, unlike_in
-from tests.samples import PLAIN, THIRTY, WORDS, some_streams
-
-NO_WHOLES = (True, False, "1", "", None, 1.0, 0.5, [1], (1,), {1: 1}, object())
-
-NO_MARKS = (
-    "", "abcdefghi", "A", "aB", "Abc", " ", "a b", " a", "a ", "1", "a1", "1a", "a-b", "a_b", "a.", "a\n", "\n",
-    "\u00e4", "a\u00e9", "\u0430", "\u00aa", "a" * 20000,
-    None, 1, True, ("a",), ["a"], {"a": 1}, b"a", object(),
-)
+from tests.samples import NO_MARKS, NO_WHOLES, PLAIN, THIRTY, WORDS, some_streams
 
 NO_STREAMS = (
     ((0, "a", 0, 1),), (), (0, "a", 0, 1), "", "a", "abcd", 0, 1, -1, THIRTY, None, True, False, 1.5, {},

@@ -2,18 +2,12 @@ import copy
 import random
 import unittest
 
-from sumshare.trees import stream_of, streams_in
-from tests.samples import PLAIN, leaning_left, leaning_right, some_stream, some_tree
+from sumshare.trees import grown, steps_in, stream_of, streams_in
+from tests.samples import PLAIN, depth_of, drawn_tree, leaning_left, leaning_right, some_stream, some_tree
 
 
 def short_streams(source, how_many):
     return [some_stream(source, source.randrange(8)) for turn in range(how_many)]
-
-
-def depth_of(tree):
-    if isinstance(tree, list):
-        return 0
-    return 1 + max(depth_of(tree[1]), depth_of(tree[2]))
 
 
 class TreesTest(unittest.TestCase):
@@ -105,3 +99,27 @@ class TreesTest(unittest.TestCase):
         streams = [[(place, "a", 0, 1)] for place in range(40)]
         self.check(leaning_left(streams), copy.deepcopy(streams))
         self.check(leaning_right(streams), copy.deepcopy(streams))
+
+
+class GrownTest(unittest.TestCase):
+    def test_steps_have_a_merging_behind_what_it_merges(self):
+        one, two, three = [(0, "a", 0, 1)], [], [(1, "b", 0, 1)]
+        self.assertEqual(steps_in(one), [one])
+        self.assertEqual(steps_in(("merged", one, two)), [one, two, None])
+        self.assertEqual(steps_in(("merged", ("merged", one, two), three)), [one, two, None, three, None])
+        self.assertEqual(steps_in(("merged", one, ("merged", two, three))), [one, two, three, None, None])
+
+    def test_grown_builds_the_tree_again(self):
+        source = random.Random(13)
+        for turn in range(100):
+            tree = drawn_tree(source, source.randrange(1, 21))
+            before = copy.deepcopy(tree)
+            again = grown(tree, list, lambda one, other: ("merged", one, other))
+            self.assertEqual(again, before)
+            self.assertEqual(tree, before)
+
+    def test_each_stream_and_each_merging_is_asked_once(self):
+        tree = leaning_left([[(place, "a", 0, 1)] for place in range(40)])
+        asked = []
+        grown(tree, lambda stream: asked.append("stream"), lambda one, other: asked.append("merging"))
+        self.assertEqual((asked.count("stream"), asked.count("merging")), (40, 39))
