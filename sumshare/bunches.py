@@ -2,13 +2,13 @@
 
 from sumshare.cuts import cut_of
 from sumshare.kinds import is_mark, is_rising, is_whole_from
-from sumshare.tallies import added_counts, empty_tally, is_made_as_tally, merged_tally, thing_tally
+from sumshare.tallies import added_sums, empty_tally, is_made_as_tally, merged_tally, thing_tally
 from sumshare.things import things_in
 from sumshare.trees import grown
 
 
 def bunches_of(one, other):
-    sums = added_counts(one, other)
+    sums = added_sums(one, other)
     cut = cut_of(one[0], sums)
     if cut == 0:
         return []

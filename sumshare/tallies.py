@@ -2,10 +2,8 @@
 
 from sumshare.cuts import cut_of
 from sumshare.errors import NoRoom
-from sumshare.kinds import is_mark, is_rising, is_whole_from, is_whole_within
+from sumshare.kinds import added_counts, are_counts, is_mark, is_room, is_whole_from
 from sumshare.trees import grown
-
-MOST_ROOM = 20
 
 
 def empty_tally(room):
@@ -17,18 +15,15 @@ def thing_tally(room, thing):
     return (room, ((mark, many),), 0, many)
 
 
-def added_counts(one, other):
-    """A dict from marks to the sums of their two counts."""
+def added_sums(one, other):
+    """A dict from marks to the sums of their counts in two tallies."""
     if one[0] != other[0]:
         raise NoRoom("tallies of unlike rooms")
-    sums = dict(one[1])
-    for mark, count in other[1]:
-        sums[mark] = sums.get(mark, 0) + count
-    return sums
+    return added_counts(one[1], other[1])
 
 
 def merged_tally(one, other):
-    sums = added_counts(one, other)
+    sums = added_sums(one, other)
     room = one[0]
     cut = cut_of(room, sums)
     counts = [(mark, sums[mark] - cut) for mark in sorted(sums) if sums[mark] > cut]
@@ -61,25 +56,12 @@ def uncounted_in(tally):
     return total - sum([count for mark, count in counts])
 
 
-def is_count(thing):
-    if not isinstance(thing, tuple) or len(thing) != 2:
-        return False
-    mark, count = thing
-    return is_mark(mark) and is_whole_from(count, 1)
-
-
-def are_counts(thing):
-    if not isinstance(thing, tuple) or not all([is_count(one) for one in thing]):
-        return False
-    return is_rising([mark for mark, count in thing])
-
-
 def is_made_as_tally(thing):
     """Whether it has the form of a tally, be it one of a tree or not."""
     if not isinstance(thing, tuple) or len(thing) != 4:
         return False
     room, counts, let, total = thing
-    if not is_whole_within(room, 1, MOST_ROOM) or not are_counts(counts):
+    if not is_room(room) or not are_counts(counts, is_mark):
         return False
     return len(counts) <= room and is_whole_from(let, 0) and is_whole_from(total, 0)
 

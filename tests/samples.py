@@ -52,6 +52,13 @@ def some_tree(source, streams):
     return ("merged", some_tree(source, streams[:middle]), some_tree(source, streams[middle:]))
 
 
+def turned(tree):
+    """The tree with the two of each merging the other way round."""
+    if isinstance(tree, list):
+        return tree
+    return ("merged", turned(tree[2]), turned(tree[1]))
+
+
 def leaning_left(streams):
     tree = streams[0]
     for stream in streams[1:]:
@@ -87,7 +94,7 @@ def some_count(source):
     ))
 
 
-def drawn_tree(source, room):
+def drawn_tree(source, room, numbers=range(9)):
     """A tree within the sizes told: any shape, mostly with more marks than room, small counts, great ones or both."""
     words = source.sample(MANY_WORDS, source.choice((1, room, room + 1, 2 * room, len(MANY_WORDS), len(MANY_WORDS))))
     small = source.randrange(2) == 0
@@ -98,7 +105,7 @@ def drawn_tree(source, room):
         stream = []
         for place in range(source.randrange(longest + 1)):
             many = source.randrange(1, 4) if small else some_count(source)
-            stream.append((source.randrange(5), source.choice(words), source.randrange(9), many))
+            stream.append((source.randrange(5), source.choice(words), source.choice(numbers), many))
         streams.append(stream)
     tree = some_tree(source, streams)
     while depth_of(tree) > 20:

@@ -7,7 +7,7 @@ from sumshare.errors import NoRoom
 from sumshare.tallies import bounds_of, count_in, empty_tally, grown_tally, is_tally, merged_tally, tally_of
 from tests.samples import (
     MANY_WORDS, NO_MARKS, NO_WHOLES, PLAIN, THIRTY, check_bounds, check_refused, drawn_tally, drawn_tree,
-    leaning_left, leaning_right, plain_kept, plain_merged,
+    leaning_left, leaning_right, plain_kept, plain_merged, turned,
 )
 
 
@@ -138,11 +138,6 @@ class DrawnTreesTest(unittest.TestCase):
         room, counts, let, total = tally
         self.assertLessEqual(total - sum(count for mark, count in counts), 2 * room * let)
 
-    def turned(self, tree):
-        if isinstance(tree, list):
-            return tree
-        return ("merged", self.turned(tree[2]), self.turned(tree[1]))
-
     def test_drawn_trees(self):
         source = random.Random(32)
         some_let_go = 0
@@ -154,7 +149,7 @@ class DrawnTreesTest(unittest.TestCase):
             self.assertEqual(tally, plain_kept(room, tree)[0])
             self.assertIs(is_tally(tally), True)
             self.check_bounds(tally, tree)
-            self.assertEqual(grown_tally(room, self.turned(tree)), tally)
+            self.assertEqual(grown_tally(room, turned(tree)), tally)
             for aside in (("merged", tree, []), ("merged", [], tree)):
                 self.assertEqual(grown_tally(room, aside), tally)
             some_let_go = some_let_go + (tally[2] > 0)
