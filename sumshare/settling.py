@@ -23,6 +23,15 @@ def first_folding(deep, bar, counts):
     return None
 
 
+def fold_up(counts, stretch, many):
+    """In a dict from stretches to counts so many go from the stretch, which has them, to its parent."""
+    parent = parent_of(stretch)
+    counts[parent] = counts.get(parent, 0) + many
+    counts[stretch] = counts[stretch] - many
+    if counts[stretch] == 0:
+        counts.pop(stretch)
+
+
 def settling_of(ladder):
     """The settled ladder, and the list of all folds on the way."""
     room, deep, pairs, total = ladder
@@ -31,12 +40,10 @@ def settling_of(ladder):
     folds = []
     stretch = first_folding(deep, bar, counts)
     while stretch is not None:
-        parent = parent_of(stretch)
         for one in pair_of(stretch):
             if one in counts:
-                many = counts.pop(one)
-                folds.append((one, many))
-                counts[parent] = counts.get(parent, 0) + many
+                folds.append((one, counts[one]))
+                fold_up(counts, one, counts[one])
         # From the lowest anew: the fold may have made a lower pair fold.
         stretch = first_folding(deep, bar, counts)
     return ((room, deep, tuple(sorted(counts.items())), total), folds)

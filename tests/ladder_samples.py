@@ -1,6 +1,6 @@
 """Ladders that the tests share, the same ones in every run, and settling them by hand."""
 
-from tests.samples import THIRTY, drawn_tree, lists_in, some_count
+from tests.samples import THIRTY, drawn_tree, leaning_left, leaning_right, lists_in, some_count, some_tree
 
 
 def stretches_of(deep):
@@ -11,6 +11,11 @@ def stretches_of(deep):
 def ladder_by(room, deep, counts):
     """The ladder with these counts, a dict, its pairs folding or not."""
     return (room, deep, tuple(sorted(counts.items())), sum(counts.values()))
+
+
+def stream_by(*pairs):
+    """A stream of tuples (number, many)."""
+    return [(place, "a", number, many) for place, (number, many) in enumerate(pairs)]
 
 
 def drawn_ladder(source, room, deep):
@@ -41,6 +46,13 @@ def drawn_number_tree(source, room, deep):
     return drawn_tree(source, room, drawn_numbers(source, deep))
 
 
+def trees_with_one_beyond(source, deep):
+    """Trees of several shapes, each with one number that isn't below 2 to the power deep, anywhere."""
+    streams = [stream_by(*[(source.randrange(2 ** deep), 1) for at in range(3)]) for place in range(6)]
+    source.choice(streams)[source.randrange(3)] = (0, "a", 2 ** deep + source.randrange(3), 1)
+    return some_tree(source, streams), leaning_left(streams), leaning_right(streams)
+
+
 def plain_settled(ladder):
     """The settled ladder and the folds, by folding the first pair that folds, and looking anew from the lowest."""
     room, deep, pairs, total = ladder
@@ -57,22 +69,35 @@ def plain_settled(ladder):
         folds = folds + done
 
 
-def plain_merged_ladder(one, other):
+def plain_merging(one, other):
+    """The two ladders merged, and the folds of merging them."""
     counts = dict(one[2])
     for stretch, count in other[2]:
         counts[stretch] = counts.get(stretch, 0) + count
-    return plain_settled(ladder_by(one[0], one[1], counts))[0]
+    return plain_settled(ladder_by(one[0], one[1], counts))
+
+
+def plain_merged_ladder(one, other):
+    return plain_merging(one, other)[0]
+
+
+def plain_folded(room, deep, tree):
+    """The ladder of the tree, settled by hand at each step, and all folds on the way."""
+    if isinstance(tree, list):
+        ladder, paper = (room, deep, (), 0), []
+        for day, mark, number, many in tree:
+            thing, own = plain_settled(ladder_by(room, deep, {(0, number): many}))
+            ladder, folds = plain_merging(ladder, thing)
+            paper = paper + own + folds
+        return ladder, paper
+    one, one_paper = plain_folded(room, deep, tree[1])
+    other, other_paper = plain_folded(room, deep, tree[2])
+    ladder, folds = plain_merging(one, other)
+    return ladder, one_paper + other_paper + folds
 
 
 def plain_ladder(room, deep, tree):
-    """The ladder of the tree, settled by hand at each step."""
-    if isinstance(tree, list):
-        ladder = (room, deep, (), 0)
-        for day, mark, number, many in tree:
-            thing = plain_settled(ladder_by(room, deep, {(0, number): many}))[0]
-            ladder = plain_merged_ladder(ladder, thing)
-        return ladder
-    return plain_merged_ladder(plain_ladder(room, deep, tree[1]), plain_ladder(room, deep, tree[2]))
+    return plain_folded(room, deep, tree)[0]
 
 
 def plain_numbers(tree):

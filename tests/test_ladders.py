@@ -8,15 +8,11 @@ from sumshare.ladders import empty_ladder, grown_ladder, is_ladder, ladder_of, m
 from sumshare.settling import folds_in
 from tests.ladder_samples import (
     drawn_ladder, drawn_number_tree, ladder_by, plain_ladder, plain_merged_ladder, plain_numbers, plain_settled,
-    stretches_of,
+    stream_by, stretches_of, trees_with_one_beyond,
 )
 from tests.samples import (
-    NO_WHOLES, PLAIN, THIRTY, check_refused, leaning_left, leaning_right, lists_in, some_tree, turned,
+    NO_WHOLES, PLAIN, THIRTY, check_refused, leaning_left, leaning_right, lists_in, turned,
 )
-
-
-def stream_by(*pairs):
-    return [(place, "a", number, many) for place, (number, many) in enumerate(pairs)]
 
 
 class MergedTest(unittest.TestCase):
@@ -142,10 +138,7 @@ class NoNumberTest(unittest.TestCase):
         source = random.Random(83)
         for turn in range(100):
             room, deep = source.randrange(1, 21), source.randrange(1, 11)
-            streams = [stream_by(*[(source.randrange(2 ** deep), 1) for at in range(3)]) for place in range(6)]
-            spoilt = source.choice(streams)
-            spoilt[source.randrange(3)] = (0, "a", 2 ** deep + source.randrange(3), 1)
-            for tree in (some_tree(source, streams), leaning_left(streams), leaning_right(streams)):
+            for tree in trees_with_one_beyond(source, deep):
                 before = copy.deepcopy(tree)
                 check_refused(self, NoNumber, grown_ladder, room, deep, tree)
                 self.assertEqual(tree, before)
